@@ -1,0 +1,1 @@
+"""Triangles of letters, and the small triangles of theirs that have all three."""

@@ -1,0 +1,89 @@
+"""That the package keeps to the rules of LANGUAGE.md, as far as its syntax tree shows them."""
+
+import ast
+import builtins
+import os
+import re
+import unittest
+import warnings
+
+PACKAGE = os.path.join(os.path.dirname(os.path.dirname(os.path.abspath(__file__))), "doorwalk")
+
+BUILTINS = set("""len range enumerate zip min max sum abs sorted reversed int str bool list tuple dict set isinstance
+    ord repr any all divmod ValueError""".split())
+METHODS = set("append copy count extend find get index insert items join keys pop split startswith values".split())
+STATEMENTS = (ast.Assign, ast.AugAssign, ast.If, ast.While, ast.For, ast.Return, ast.Break, ast.Continue, ast.Pass,
+              ast.Raise, ast.Expr, ast.FunctionDef, ast.ClassDef, ast.ImportFrom)
+BARRED_WORDS = re.compile(r"\b(typing|enum|Enum|Generic|Protocol|ABC|namedtuple)\b|dataclass|overload|contextmanager")
+
+
+def sources():
+    """Each file of the package, by its name, with its text."""
+    found = {}
+    for name in sorted(os.listdir(PACKAGE)):
+        if name != "__pycache__":
+            with open(os.path.join(PACKAGE, name), encoding="utf-8") as file:
+                found[name] = file.read()
+    return found
+
+
+def nodes(text, *kinds):
+    return [node for node in ast.walk(ast.parse(text)) if isinstance(node, kinds)]
+
+
+class Language(unittest.TestCase):
+    def test_files(self):
+        for name, text in sources().items():
+            self.assertRegex(name, r"^[a-z_][a-z0-9_]*\.py$")
+            self.assertLessEqual(len(text.splitlines()), 399, name)
+            self.assertRegex(text, r"\A[ -~\n]*\Z", name)
+            self.assertLessEqual(max(len(line) for line in text.splitlines()), 120, name)
+
+    def test_functions_are_short_and_plain(self):
+        for name, text in sources().items():
+            for node in nodes(text, ast.FunctionDef):
+                self.assertLessEqual(node.end_lineno - node.lineno + 1, 40, (name, node.name))
+                self.assertEqual(node.decorator_list, [], (name, node.name))
+
+    def test_no_warnings(self):
+        with warnings.catch_warnings():
+            warnings.simplefilter("error")
+            for name, text in sources().items():
+                compile(text, name, "exec")
+
+    def test_statements(self):
+        for name, text in sources().items():
+            for node in nodes(text, ast.stmt):
+                self.assertIsInstance(node, STATEMENTS, (name, node.lineno))
+
+    def test_imports_are_of_the_package_alone(self):
+        for name, text in sources().items():
+            for node in nodes(text, ast.ImportFrom):
+                self.assertEqual(node.level, 0, name)
+                self.assertRegex(node.module, r"^doorwalk\.[a-z]+$", name)
+                self.assertNotIn("*", [told.name for told in node.names], name)
+
+    def test_names(self):
+        for name, text in sources().items():
+            own = {node.name for node in nodes(text, ast.FunctionDef, ast.ClassDef)}
+            own |= {node.arg for node in nodes(text, ast.arg)}
+            own |= {node.id for node in nodes(text, ast.Name) if isinstance(node.ctx, ast.Store)}
+            self.assertEqual(own & set(dir(builtins)), set(), name)
+            own |= {told.name for node in nodes(text, ast.ImportFrom) for told in node.names}
+            read = {node.id for node in nodes(text, ast.Name) if isinstance(node.ctx, ast.Load)}
+            self.assertLessEqual(read, own | BUILTINS, name)
+
+    def test_methods(self):
+        for name, text in sources().items():
+            self.assertLessEqual({node.attr for node in nodes(text, ast.Attribute)}, METHODS, name)
+
+    def test_words_and_values(self):
+        for name, text in sources().items():
+            self.assertIsNone(BARRED_WORDS.search(text), name)
+            for node in nodes(text, ast.Constant):
+                self.assertIsInstance(node.value, (int, str, bool, type(None)), (name, node.lineno))
+            self.assertEqual(nodes(text, ast.Div, ast.GeneratorExp, ast.Global, ast.Assert), [], name)
+
+
+if __name__ == "__main__":
+    unittest.main()
