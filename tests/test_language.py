@@ -74,8 +74,10 @@ class Language(unittest.TestCase):
             self.assertLessEqual(read, own | BUILTINS, name)
 
     def test_methods(self):
+        own = {node.name for text in sources().values() for node in nodes(text, ast.FunctionDef)}
         for name, text in sources().items():
-            self.assertLessEqual({node.attr for node in nodes(text, ast.Attribute)}, METHODS, name)
+            called = [node.func for node in nodes(text, ast.Call) if isinstance(node.func, ast.Attribute)]
+            self.assertLessEqual({node.attr for node in called}, METHODS | own, name)
 
     def test_words_and_values(self):
         for name, text in sources().items():
