@@ -1,1 +1,1 @@
-"""Triangles of letters, and the small triangles of theirs that have all three."""
+"""Triangles of letters, the small triangles that have all three, and walks from door to door that find them."""

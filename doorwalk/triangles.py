@@ -1,4 +1,4 @@
-"""Triangles of letters: their small triangles, and the side with its doors."""
+"""Triangles of letters: their small triangles, the side with its doors, and the rule."""
 
 from doorwalk.errors import BadSmall, BadSpot, BadTriangle
 
@@ -6,6 +6,7 @@ from doorwalk.errors import BadSmall, BadSpot, BadTriangle
 LETTERS = ("a", "b", "c")
 LEFT_ROUNDS = ("abc", "bca", "cab")
 RIGHT_ROUNDS = ("acb", "cba", "bac")
+DOOR_STEPS = ("ab", "ba")
 
 
 def is_number(value):
@@ -81,9 +82,14 @@ def all_smalls(triangle):
     return smalls
 
 
+def letters_at(triangle, spots):
+    """Join the letters that stand at these spots."""
+    return "".join([triangle[row][place] for row, place in spots])
+
+
 def turn_of(triangle, small):
     """Tell the turn of what surely is a small triangle of a triangle."""
-    round_left = "".join([triangle[row][place] for row, place in corners(small)])
+    round_left = letters_at(triangle, corners(small))
     if round_left in LEFT_ROUNDS:
         return 1
     if round_left in RIGHT_ROUNDS:
@@ -101,10 +107,24 @@ def side_spots(triangle):
 
 
 def side_steps(triangle):
-    """List the steps of the side, each as the two letters from and to which it leads."""
-    letters = [triangle[row][place] for row, place in side_spots(triangle)]
-    following = letters[1:] + letters[:1]
-    return [here + there for here, there in zip(letters, following)]
+    """List the steps of the side, each as the pair of the spots from and to which it leads."""
+    spots = side_spots(triangle)
+    return list(zip(spots, spots[1:] + spots[:1]))
+
+
+def is_door(triangle, step):
+    """Tell whether a step from one spot to another leads between an a and a b."""
+    return letters_at(triangle, step) in DOOR_STEPS
+
+
+def breaks_rule(triangle, row, place):
+    """Tell whether what surely is a spot of a triangle breaks the rule."""
+    letter = triangle[row][place]
+    if row == 0 and letter == "c":
+        return True
+    if place == 0 and letter == "b":
+        return True
+    return place == len(triangle[row]) - 1 and letter == "a"
 
 
 def fulls(triangle):
@@ -116,14 +136,14 @@ def fulls(triangle):
 def around(triangle):
     """Tell how many steps of the side lead from a to b, less those from b to a."""
     check_triangle(triangle)
-    steps = side_steps(triangle)
+    steps = [letters_at(triangle, step) for step in side_steps(triangle)]
     return steps.count("ab") - steps.count("ba")
 
 
 def doors(triangle):
     """List the counts of all doors of the side, rising."""
     check_triangle(triangle)
-    return [at for at, step in enumerate(side_steps(triangle)) if step in ("ab", "ba")]
+    return [at for at, step in enumerate(side_steps(triangle)) if is_door(triangle, step)]
 
 
 def turn(triangle, small):

@@ -1,6 +1,6 @@
 """Triangles for the tests, values that are refused, and a second way to count by coordinates."""
 
-from itertools import product
+from itertools import combinations, product
 
 # (triangle, the turn of each small triangle, doors, around), worked out by hand.
 BY_HAND = [
@@ -108,12 +108,80 @@ def turn_by_points(triangle, three):
     return 1 if cross(at["a"], at["b"], at["c"]) > 0 else -1
 
 
+def side_path(triangle):
+    """The spots of the side, gone round step by step, ending with the first one again."""
+    last = len(triangle) - 1
+    path = [(0, 0)]
+    for step_row, step_place in [(0, 1)] * last + [(1, -1)] * last + [(-1, 0)] * last:
+        path.append((path[-1][0] + step_row, path[-1][1] + step_place))
+    return path
+
+
 def side_walk(triangle):
     """The letters of the side, gone round step by step, ending with the first one again."""
+    return "".join([triangle[row][place] for row, place in side_path(triangle)])
+
+
+def breaking(triangle):
+    """The spots that break the rule, by rows, then places, as the document words it."""
     last = len(triangle) - 1
-    row, place = 0, 0
-    word = triangle[0][0]
-    for step_row, step_place in [(0, 1)] * last + [(1, -1)] * last + [(-1, 0)] * last:
-        row, place = row + step_row, place + step_place
-        word += triangle[row][place]
-    return word
+    found = {(0, place) for place in range(last + 1) if triangle[0][place] == "c"}
+    found |= {(row, 0) for row in range(last + 1) if triangle[row][0] == "b"}
+    found |= {(row, last - row) for row in range(last + 1) if triangle[row][last - row] == "a"}
+    return sorted(found)
+
+
+def keeping(triangle):
+    """A triangle that keeps the rule: this one, with other letters at those spots that break it."""
+    rows = [list(letters) for letters in triangle]
+    last = len(triangle) - 1
+    for at in range(1, last):
+        rows[0][at] = rows[0][at].replace("c", "a")
+        rows[at][0] = rows[at][0].replace("b", "c")
+        rows[at][-1] = rows[at][-1].replace("a", "b")
+    rows[0][0], rows[0][last], rows[last][0] = "a", "b", "c"
+    return ["".join(letters) for letters in rows]
+
+
+def keepers():
+    """All triangles of two, three and four rows that keep the rule."""
+    made = [["ab", "c"]]
+    made += [["a" + low + "b", left + right, "c"] for low, left, right in product("ab", "ac", "bc")]
+    for word in product("ab", "ab", "ac", "abc", "bc", "ac", "bc"):
+        made.append(["a" + word[0] + word[1] + "b", word[2] + word[3] + word[4], word[5] + word[6], "c"])
+    return made
+
+
+def doors_between(triangle):
+    """Of each door, as the set of its two spots, the small triangles that have it: two, or one at the side."""
+    found = {}
+    for small, three in small_spots(triangle).items():
+        for pair in combinations(three, 2):
+            if {triangle[row][place] for row, place in pair} == {"a", "b"}:
+                found.setdefault(frozenset(pair), []).append(small)
+    return found
+
+
+def side_counts(triangle):
+    """Of each step of the side, as the set of its two spots, its count."""
+    path = side_path(triangle)
+    return {frozenset(path[at:at + 2]): at for at in range(len(path) - 1)}
+
+
+def slow_walk(triangle, small, gone):
+    """The small triangles walked from one on, and the count of the door out, or None: by the doors not gone through.
+
+    In gone stand the doors gone through before; those gone through now are added to it, in turn.
+    """
+    between = doors_between(triangle)
+    walked = [small]
+    while True:
+        ways = [door for door in between if walked[-1] in between[door] and door not in gone]
+        if not ways:
+            return walked, None
+        assert len(ways) == 1
+        gone.append(ways[0])
+        beyond = [other for other in between[ways[0]] if other != walked[-1]]
+        if not beyond:
+            return walked, side_counts(triangle)[ways[0]]
+        walked.append(beyond[0])

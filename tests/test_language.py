@@ -73,6 +73,39 @@ class Language(unittest.TestCase):
             read = {node.id for node in nodes(text, ast.Name) if isinstance(node.ctx, ast.Load)}
             self.assertLessEqual(read, own | BUILTINS, name)
 
+    def test_imports_go_one_way(self):
+        reached = {}
+        for name, text in sources().items():
+            reached[name] = {node.module.split(".")[1] + ".py" for node in nodes(text, ast.ImportFrom)}
+        for _ in reached:
+            for name, others in reached.items():
+                reached[name] = others | {further for other in others for further in reached[other]}
+        for name, others in reached.items():
+            self.assertNotIn(name, others)
+
+    def test_classes(self):
+        for name, text in sources().items():
+            for kind in nodes(text, ast.ClassDef):
+                own = {node.name for node in kind.body if isinstance(node, ast.FunctionDef)}
+                given = {node.attr for node in ast.walk(kind) if isinstance(node, ast.Attribute)
+                         and isinstance(node.ctx, ast.Store)}
+                self.assertEqual(own & given, set(), (name, kind.name))
+                self.assertLessEqual({method for method in own if method.startswith("_")}, {"__init__"})
+                taken = set(dir(list)) | set(dir(str)) | set(dir(dict)) | set(dir(int))
+                self.assertEqual((own | given) & taken - {"__init__"}, set(), (name, kind.name))
+
+    def test_attributes_read_are_given(self):
+        given, read = set(), set()
+        for text in sources().values():
+            tree = list(ast.walk(ast.parse(text)))
+            called = [node.func for node in tree if isinstance(node, ast.Call)]
+            for node in tree:
+                if isinstance(node, ast.Attribute) and isinstance(node.ctx, ast.Store):
+                    given.add(node.attr)
+                elif isinstance(node, ast.Attribute) and node not in called:
+                    read.add(node.attr)
+        self.assertLessEqual(read, given)
+
     def test_methods(self):
         own = {node.name for text in sources().values() for node in nodes(text, ast.FunctionDef)}
         for name, text in sources().items():
